@@ -1,0 +1,1 @@
+"""Tonguerank: rankings of wishes that choose how a word is said."""
