@@ -5,19 +5,10 @@ import itertools
 import math
 import unittest
 
+from plain import BAD_COUNTS, BAD_RANKINGS, FORTY, UNLIKE_COUNTS
 from tonguerank.errors import NoCount, NoRanking
 from tonguerank.rankings import beats, best, rankings
 from tonguerank.words import word_of
-
-FORTY = 10 ** 40 - 1
-BAD_COUNTS = (0, 7, 8, -1, -6, -7, FORTY, -FORTY, 10 ** 5000)
-UNLIKE_COUNTS = tuple(itertools.permutations(range(1, 7), 2))
-# None of them is a ranking of three wishes.
-BAD_RANKINGS = (
-    (), (0,), (0, 1), (1, 2), (0, 1, 2, 3), (0, 1, 2, 2), (0, 1, 2, 0), (0, 0, 1), (0, 1, 1), (2, 2, 2),
-    (-1, 0, 1), (0, 1, -1), (-1, -2, -3), (0, 1, 3), (1, 2, 3), (3, 2, 1), (0, 1, FORTY), (-FORTY, 0, 1),
-    (0, 2, -2), (0, 1, -1, 2),
-)
 
 
 def plainly_beats(ranking, one, two):

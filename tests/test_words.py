@@ -3,11 +3,9 @@
 import copy
 import unittest
 
+from plain import BAD_COUNTS, FORTY
 from tonguerank.errors import NoCount, NoMarks, NoWord
 from tonguerank.words import word_of
-
-FORTY = 10 ** 40 - 1
-BAD_COUNTS = (0, 7, 8, -1, -6, -7, FORTY, -FORTY, 10 ** 5000)
 
 
 class Told(unittest.TestCase):
