@@ -1,4 +1,4 @@
-"""What several tests share: plain readings of points 10 to 14, and inputs at the bounds."""
+"""What several tests share: plain readings of points 7 to 17, and inputs at the bounds."""
 
 import itertools
 
@@ -87,17 +87,20 @@ def plainly_follows(count, rows, row):
     return all(ranking_fits(ranking, row) for ranking in rankings_that_fit(count, rows))
 
 
-def mixed_rows(count, many, seed):
-    """Some rows of all kinds, the same at each run."""
-    rows = []
+def mixed_numbers(many, below, seed):
+    """Some whole numbers from 0 on, in no plain order, the same at each run."""
+    numbers = []
     state = seed * 7919 + 17
     for place in range(many):
-        row = ""
-        for wish in range(count):
-            state = (state * 1103515245 + 12345) % 2 ** 31
-            row += "WeeL"[state // 65536 % 4]
-        rows.append(row)
-    return rows
+        state = (state * 1103515245 + 12345) % 2 ** 31
+        numbers.append(state // 65536 % below)
+    return numbers
+
+
+def mixed_rows(count, many, seed):
+    """Some rows of all kinds, the same at each run."""
+    signs = "".join("WeeL"[number] for number in mixed_numbers(count * many, 4, seed))
+    return [signs[count * place:count * (place + 1)] for place in range(many)]
 
 
 def mixed_rows_that_fit(ranking, many, seed):
@@ -110,6 +113,16 @@ def assert_rising_places(case, places, rows):
     case.assertIs(type(places), list)
     case.assertTrue(all(type(place) is int and 0 <= place < len(rows) for place in places), places)
     case.assertEqual(places, sorted(set(places)))
+
+
+def assert_clashing_places(case, count, rows, places):
+    assert_rising_places(case, places, rows)
+    case.assertTrue(plainly_clash(count, [rows[place] for place in places]), (rows, places))
+
+
+def assert_tuple_of_numbers(case, told):
+    case.assertIs(type(told), tuple)
+    case.assertTrue(all(type(number) is int for number in told), told)
 
 
 def assert_pair(case, told):

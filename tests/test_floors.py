@@ -4,8 +4,8 @@ import itertools
 import unittest
 
 from plain import (
-    assert_pair, assert_rising_places, every_floors, every_ranking, every_row, floor_numbers, floors_fit, mixed_rows,
-    mixed_rows_that_fit, plainly_clash, ranking_fits, rankings_that_fit,
+    assert_clashing_places, assert_pair, every_floors, every_ranking, every_row, floor_numbers, floors_fit,
+    mixed_rows, mixed_rows_that_fit, ranking_fits, rankings_that_fit,
 )
 from tonguerank.floors import floors
 
@@ -52,9 +52,8 @@ class FloorsCase(unittest.TestCase):
             self.assert_held_up(told[1], rows)
             self.assert_as_high_as_may_be(count, told[1], rows)
         else:
-            assert_rising_places(self, told[1], rows)
+            assert_clashing_places(self, count, rows, told[1])
             clashing = [rows[place] for place in told[1]]
-            self.assertTrue(plainly_clash(count, clashing), (told, rows))
             self.assertEqual(rankings_that_fit(count, clashing), [], (told, rows))
         return told
 
