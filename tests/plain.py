@@ -87,6 +87,20 @@ def plainly_follows(count, rows, row):
     return all(ranking_fits(ranking, row) for ranking in rankings_that_fit(count, rows))
 
 
+def plain_key(ranking, marks):
+    """Point 7 in other words: of two marks those beat the others that are less, read in the ranking's order."""
+    return [marks[wish] for wish in ranking]
+
+
+def plain_bests(ranking, word):
+    least = min(plain_key(ranking, marks) for marks in word)
+    return [number for number, marks in enumerate(word) if plain_key(ranking, marks) == least]
+
+
+def plain_row(one, two):
+    return "".join("W" if mine < other else "L" if mine > other else "e" for mine, other in zip(one, two, strict=True))
+
+
 def mixed_numbers(many, below, seed):
     """Some whole numbers from 0 on, in no plain order, the same at each run."""
     numbers = []
@@ -101,6 +115,11 @@ def mixed_rows(count, many, seed):
     """Some rows of all kinds, the same at each run."""
     signs = "".join("WeeL"[number] for number in mixed_numbers(count * many, 4, seed))
     return [signs[count * place:count * (place + 1)] for place in range(many)]
+
+
+def mixed_word(count, many, below, seed):
+    numbers = mixed_numbers(count * many, below, seed)
+    return tuple(tuple(numbers[count * place:count * (place + 1)]) for place in range(many))
 
 
 def mixed_rows_that_fit(ranking, many, seed):

@@ -4,7 +4,8 @@ import itertools
 import unittest
 
 from plain import (
-    FORTY, assert_clashing_places, assert_pair, assert_tuple_of_numbers, every_ranking, mixed_numbers,
+    FORTY, assert_clashing_places, assert_pair, assert_tuple_of_numbers, every_ranking, mixed_word, plain_bests,
+    plain_row,
 )
 from tonguerank.chances import chance
 from tonguerank.errors import NoSaying, RankError
@@ -16,25 +17,9 @@ from tonguerank.words import word_of
 FAR = 10 ** 39 - 1
 
 
-def plain_key(ranking, marks):
-    return [marks[wish] for wish in ranking]
-
-
 def plainly_has_chance(word, number):
-    """The rankings, in order, by which no saying has fewer marks at the first wish that tells them apart."""
-    return [
-        ranking for ranking in every_ranking(len(word[0]))
-        if plain_key(ranking, word[number]) == min(plain_key(ranking, marks) for marks in word)
-    ]
-
-
-def plain_row(one, two):
-    return "".join("W" if mine < other else "L" if mine > other else "e" for mine, other in zip(one, two, strict=True))
-
-
-def mixed_word(count, many, below, seed):
-    numbers = mixed_numbers(count * many, below, seed)
-    return word_of(count, [numbers[count * place:count * (place + 1)] for place in range(many)])
+    """All rankings by which the saying is among the best, in order."""
+    return [ranking for ranking in every_ranking(len(word[0])) if number in plain_bests(ranking, word)]
 
 
 class ChanceCase(unittest.TestCase):

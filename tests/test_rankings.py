@@ -175,8 +175,9 @@ class Beats(unittest.TestCase):
                     beats(tuple(range(other)), (0,) * count, (1,) * count)
 
     def test_truths_are_no_wishes(self):
-        with self.assertRaises(NoRanking):
-            beats((False, True), (0, 1), (1, 0))
+        for ranking in ((False, True), (0, True), (False, 1), (True, 0)):
+            with self.assertRaises(NoRanking):
+                beats(ranking, (0, 1), (1, 0))
 
 
 class Best(unittest.TestCase):
@@ -278,8 +279,9 @@ class Best(unittest.TestCase):
                     best(tuple(range(other)), ((0,) * count, (1,) * count))
 
     def test_truths_are_no_wishes(self):
-        with self.assertRaises(NoRanking):
-            best((False, True), ((0, 1), (1, 0)))
+        for ranking in ((False, True), (0, True), (False, 1), (True, 0)):
+            with self.assertRaises(NoRanking):
+                best(ranking, ((0, 1), (1, 0)))
 
     def test_more_sayings_than_a_word_has_are_not_refused(self):
         self.assert_best((0, 1), ((1, 0), (0, 1)) * 7, [1, 3, 5, 7, 9, 11, 13])

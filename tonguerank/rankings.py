@@ -23,12 +23,17 @@ def one_wish_longer(count, starts):
     return longer
 
 
-def rankings(count):
-    check_count(count)
+# For those who refuse no count.
+def rankings_in_order(count):
     told = [()]
     while len(told[0]) < count:
         told = one_wish_longer(count, told)
     return told
+
+
+def rankings(count):
+    check_count(count)
+    return rankings_in_order(count)
 
 
 # What beats does once the ranking is checked, so that best checks it once alone.
